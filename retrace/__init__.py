@@ -1,0 +1,1 @@
+"""Retrace: runs looked into, backward and forward."""

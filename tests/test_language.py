@@ -1,0 +1,116 @@
+"""The form of the package's files, as far as it can be seen of them one by one: ../shared/LANGUAGE.md."""
+import ast
+import builtins
+import os
+import re
+import unittest
+
+FOLDER = os.path.join(os.path.dirname(os.path.dirname(os.path.abspath(__file__))), "retrace")
+OWN_NAMES = """len range enumerate zip min max sum abs sorted reversed int str bool list tuple dict set frozenset
+isinstance ord repr any all divmod Exception ValueError TypeError KeyError IndexError LookupError ZeroDivisionError
+ArithmeticError OverflowError RuntimeError NotImplementedError AttributeError StopIteration""".split()
+METHODS = ("__init__", "__eq__", "__repr__", "__str__", "__len__")
+STATEMENTS = (
+    ast.Assign, ast.AugAssign, ast.If, ast.While, ast.For, ast.Return, ast.Break, ast.Continue, ast.Pass, ast.Raise,
+    ast.Try, ast.Expr, ast.FunctionDef, ast.ClassDef, ast.ImportFrom,
+)
+NO_EXPRESSIONS = (
+    ast.SetComp, ast.DictComp, ast.GeneratorExp, ast.NamedExpr, ast.Starred, ast.Await, ast.Yield, ast.YieldFrom,
+    ast.Div, ast.MatMult,
+)
+NO_WORDS = re.compile(
+    r"\b(type|typing|typing_extensions|enum|Enum|IntEnum|StrEnum|Flag|IntFlag|Generic|Protocol|ABC|ABCMeta|namedtuple"
+    r"|NamedTuple|TypedDict|TYPE_CHECKING|abstractmethod)\b|dataclass|overload|contextmanager")
+
+
+def files():
+    """The text of each file of the package, by its name."""
+    texts = {}
+    for name in sorted(os.listdir(FOLDER)):
+        if name != "__pycache__":
+            with open(os.path.join(FOLDER, name), encoding="utf-8", newline="") as file:
+                texts[name] = file.read()
+    return texts
+
+
+def nodes():
+    return [(name, node) for name, text in files().items() for node in ast.walk(ast.parse(text))]
+
+
+def drawn_from(text):
+    """The files that one draws from."""
+    return [node.module.split(".")[1] + ".py" for node in ast.parse(text).body if isinstance(node, ast.ImportFrom)]
+
+
+class Language(unittest.TestCase):
+    def test_files(self):
+        self.assertIn("__init__.py", files())
+        for name in files():
+            self.assertRegex(name, r"\A[a-z0-9_]+\.py\Z")
+
+    def test_signs_words_and_sizes(self):
+        for name, text in files().items():
+            with self.subTest(name=name):
+                self.assertRegex(text, r"\A[ -~\n]*\Z")
+                self.assertIsNone(NO_WORDS.search(text))
+                self.assertLessEqual(len(text.splitlines()), 400)
+                self.assertLessEqual(max([len(line) for line in text.splitlines()]), 120)
+
+    def test_functions(self):
+        for name, node in nodes():
+            if isinstance(node, ast.FunctionDef):
+                with self.subTest(name=name, function=node.name):
+                    self.assertLessEqual(node.end_lineno - node.lineno + 1, 40)
+                    self.assertEqual(node.decorator_list, [])
+                    found = node.args
+                    self.assertFalse(found.vararg or found.kwarg or found.kwonlyargs or found.posonlyargs)
+                    self.assertTrue(node.name in METHODS or not node.name.startswith("_"))
+                    for parameter in found.args:
+                        self.assertFalse(parameter.arg.startswith("_") or hasattr(builtins, parameter.arg))
+
+    def test_imports(self):
+        for name, text in files().items():
+            for node in ast.walk(ast.parse(text)):
+                with self.subTest(name=name):
+                    self.assertNotIsInstance(node, ast.Import)
+                    if isinstance(node, ast.ImportFrom):
+                        self.assertEqual(node.level, 0)
+                        self.assertRegex(node.module, r"\Aretrace\.[a-z_0-9]+\Z")
+                        self.assertIn(node.module.split(".")[1] + ".py", files())
+                        self.assertNotIn("*", [alias.name for alias in node.names])
+
+    def test_no_two_files_draw_from_one_another(self):
+        texts = files()
+        for name in texts:
+            reached = drawn_from(texts[name])
+            for further in reached:
+                reached.extend([other for other in drawn_from(texts[further]) if other not in reached])
+            self.assertNotIn(name, reached)
+
+    def test_statements_and_expressions(self):
+        for name, node in nodes():
+            with self.subTest(name=name, line=getattr(node, "lineno", None)):
+                self.assertFalse(isinstance(node, ast.stmt) and not isinstance(node, STATEMENTS))
+                self.assertNotIsInstance(node, NO_EXPRESSIONS)
+                if isinstance(node, (ast.For, ast.While)):
+                    self.assertEqual(node.orelse, [])
+                if isinstance(node, ast.Try):
+                    self.assertEqual(node.finalbody, [])
+                if isinstance(node, ast.Assign):
+                    self.assertEqual(len(node.targets), 1)
+                if isinstance(node, ast.Constant):
+                    self.assertNotIsInstance(node.value, (float, bytes, complex))
+                    self.assertFalse(isinstance(node.value, str) and "%" in node.value)
+
+    def test_names(self):
+        for name, node in nodes():
+            if isinstance(node, ast.Name):
+                with self.subTest(name=name, line=node.lineno):
+                    self.assertFalse(node.id.startswith("_"))
+                    if hasattr(builtins, node.id):
+                        self.assertIn(node.id, OWN_NAMES)
+                        self.assertIsInstance(node.ctx, ast.Load)
+
+
+if __name__ == "__main__":
+    unittest.main()
