@@ -1,4 +1,5 @@
 """The numbers of a program's rows, and what is told by them."""
+from retrace.nodes import rows_within
 
 NOTHING_AROUND = -1
 
@@ -18,16 +19,6 @@ def add_rows(triples, rows, around):
         number = len(triples)
         triples.append((number, row, around))
         add_rows(triples, rows_within(row), number)
-
-
-def rows_within(row):
-    if row[0] == "if":
-        return row[2] + row[3]
-    if row[0] == "while":
-        return row[2]
-    if row[0] == "try":
-        return row[1] + row[3]
-    return ()
 
 
 def doors_of(program):

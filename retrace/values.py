@@ -1,24 +1,9 @@
 """What a name, a number and a value are."""
+from retrace.nodes import has_word, value_kinds
 
 MOST_LETTERS = 6
 GREATEST = 999999
 DEEPEST = 4
-
-# What stands behind a value's word, part by part.
-FORMS = {
-    "number": ("number",),
-    "box": ("box",),
-    "plus": ("value", "value"),
-    "minus": ("value", "value"),
-    "times": ("value", "value"),
-    "over": ("value", "value"),
-    "rest": ("value", "value"),
-    "less": ("value", "value"),
-    "same": ("value", "value"),
-    "not": ("value",),
-    "item": ("list", "value"),
-    "size": ("list",),
-}
 
 
 def is_name(thing):
@@ -40,12 +25,9 @@ def is_value(thing, boxes, lists):
 
 def is_value_within(thing, boxes, lists, depth):
     # The depth that is left bounds the walk: a thing of thousands of tuples is left at the fifth.
-    if depth == 0 or not isinstance(thing, tuple) or len(thing) == 0:
+    if depth == 0 or not has_word(thing):
         return False
-    # Asked ahead of the look into FORMS, since a thing of another kind may not be fit for a key.
-    if not isinstance(thing[0], str):
-        return False
-    kinds = FORMS.get(thing[0])
+    kinds = value_kinds(thing[0])
     if kinds is None or len(thing) != 1 + len(kinds):
         return False
     return all([is_part(kind, part, boxes, lists, depth - 1) for kind, part in zip(kinds, thing[1:])])

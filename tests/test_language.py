@@ -18,6 +18,9 @@ NO_EXPRESSIONS = (
     ast.SetComp, ast.DictComp, ast.GeneratorExp, ast.NamedExpr, ast.Starred, ast.Await, ast.Yield, ast.YieldFrom,
     ast.Div, ast.MatMult,
 )
+OWN_METHODS = """append clear copy count endswith extend find get index insert isalnum isalpha isdigit islower isspace
+isupper items join keys ljust lower lstrip partition pop remove replace reverse rfind rjust rpartition rsplit rstrip
+setdefault split splitlines startswith strip update upper values zfill bit_length""".split()
 NO_WORDS = re.compile(
     r"\b(type|typing|typing_extensions|enum|Enum|IntEnum|StrEnum|Flag|IntFlag|Generic|Protocol|ABC|ABCMeta|namedtuple"
     r"|NamedTuple|TypedDict|TYPE_CHECKING|abstractmethod)\b|dataclass|overload|contextmanager")
@@ -101,6 +104,54 @@ class Language(unittest.TestCase):
                 if isinstance(node, ast.Constant):
                     self.assertNotIsInstance(node.value, (float, bytes, complex))
                     self.assertFalse(isinstance(node.value, str) and "%" in node.value)
+
+    def test_comprehensions_texts_and_is(self):
+        for name, node in nodes():
+            with self.subTest(name=name, line=getattr(node, "lineno", None)):
+                if isinstance(node, ast.ListComp):
+                    self.assertEqual(len(node.generators), 1)
+                    self.assertLessEqual(len(node.generators[0].ifs), 1)
+                if isinstance(node, ast.FormattedValue):
+                    self.assertIsInstance(node.value, ast.Name)
+                    self.assertIsNone(node.format_spec)
+                if isinstance(node, ast.Compare) and isinstance(node.ops[0], (ast.Is, ast.IsNot)):
+                    self.assertIsInstance(node.comparators[0], ast.Constant)
+                    self.assertIn(node.comparators[0].value, (None, True, False))
+
+    def test_methods_and_values(self):
+        methods, stored, called = set(), set(), set()
+        for name, node in nodes():
+            if isinstance(node, ast.ClassDef):
+                methods.update([part.name for part in node.body if isinstance(part, ast.FunctionDef)])
+            if isinstance(node, ast.Attribute) and isinstance(node.ctx, ast.Store):
+                stored.add(node.attr)
+            if isinstance(node, ast.Call) and isinstance(node.func, ast.Attribute):
+                called.add(node.func.attr)
+        self.assertEqual(methods & stored, set())
+        self.assertEqual(called - methods - set(OWN_METHODS), set())
+
+    def test_what_stands_at_the_top(self):
+        for name, text in files().items():
+            bound = []
+            for node in ast.parse(text).body:
+                with self.subTest(name=name, line=node.lineno):
+                    self.assertIsInstance(node, (ast.Expr, ast.ImportFrom, ast.FunctionDef, ast.ClassDef, ast.Assign))
+                    if isinstance(node, ast.Assign):
+                        bound.append(node.targets[0].id)
+                    if isinstance(node, (ast.FunctionDef, ast.ClassDef)):
+                        bound.append(node.name)
+                    if isinstance(node, ast.ImportFrom):
+                        bound.extend([alias.name for alias in node.names])
+            self.assertEqual(len(bound), len(set(bound)), name)
+
+    def test_every_name_that_is_drawn_is_used(self):
+        for name, text in files().items():
+            tree = ast.parse(text)
+            used = [node.id for node in ast.walk(tree) if isinstance(node, ast.Name)]
+            for node in tree.body:
+                if isinstance(node, ast.ImportFrom):
+                    for alias in node.names:
+                        self.assertIn(alias.name, used, name)
 
     def test_names(self):
         for name, node in nodes():

@@ -3,36 +3,11 @@ import copy
 import string
 import unittest
 
+from samples import ONE, OTHER_KINDS, TWO_VALUES, LikeAll, LikeNothing
 from retrace.values import is_name, is_number, is_value
 
 BOXES = ["a", "b", "count"]
 LISTS = ["l", "heap"]
-TWO_VALUES = ("plus", "minus", "times", "over", "rest", "less", "same")
-ONE = ("number", 1)
-
-
-class LikeAll:
-    """A thing that calls itself the same as anything, and can't be a key."""
-
-    __hash__ = None
-
-    def __eq__(self, other):
-        return True
-
-
-class LikeNothing:
-    """A thing that can't even be compared."""
-
-    __hash__ = None
-
-    def __eq__(self, other):
-        raise RuntimeError("not to be compared")
-
-
-OTHER_KINDS = (
-    None, True, False, 0.0, 1.0, 1j, b"a", b"", [], ["a"], [1], (), ("a",), (1,), {}, {"a": 1}, {"a"}, frozenset(),
-    object(), int, str, len, range(3), ..., LikeAll(), LikeNothing(), float("nan"), float("inf"), bytearray(b"a"),
-)
 
 
 def nested(depth):
