@@ -54,9 +54,6 @@ def head_kinds(word):
     return kinds
 
 
-def rows_within(row):
-    within = []
-    for kind, part in zip(ROW_FORMS[row[0]], row[1:]):
-        if kind == "rows":
-            within.extend(part)
-    return within
+def parts_within(row):
+    """The rows within a row, part by part: an if's and a try's have two parts."""
+    return [part for kind, part in zip(ROW_FORMS[row[0]], row[1:]) if kind == "rows"]

@@ -1,16 +1,17 @@
 """The numbers of a program's rows, and what is told by them."""
-from retrace.nodes import rows_within
+from retrace.nodes import parts_within
 
-NOTHING_AROUND = -1
+# Stands in the place of a row's number where there is no such row.
+NO_ROW = -1
 
 
 def rows_of(program):
     triples = []
     for function in program[2]:
         number = len(triples)
-        triples.append((number, ("def", function[0]), NOTHING_AROUND))
+        triples.append((number, ("def", function[0]), NO_ROW))
         add_rows(triples, function[3], number)
-    add_rows(triples, program[3], NOTHING_AROUND)
+    add_rows(triples, program[3], NO_ROW)
     return triples
 
 
@@ -18,7 +19,8 @@ def add_rows(triples, rows, around):
     for row in rows:
         number = len(triples)
         triples.append((number, row, around))
-        add_rows(triples, rows_within(row), number)
+        for part in parts_within(row):
+            add_rows(triples, part, number)
 
 
 def doors_of(program):

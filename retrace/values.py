@@ -12,11 +12,15 @@ def is_name(thing):
     return 1 <= len(thing) <= MOST_LETTERS and all(["a" <= sign <= "z" for sign in thing])
 
 
-def is_number(thing):
+def is_whole(thing, least, most):
     # Python takes a truth for a whole number; here it is none.
     if isinstance(thing, bool) or not isinstance(thing, int):
         return False
-    return 0 <= thing <= GREATEST
+    return least <= thing <= most
+
+
+def is_number(thing):
+    return is_whole(thing, 0, GREATEST)
 
 
 def is_value(thing, boxes, lists):

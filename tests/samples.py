@@ -3,6 +3,7 @@ import random
 import unittest
 
 from retrace.errors import RunError
+from retrace.numbers import doors_of, rows_of
 
 
 class LikeAll:
@@ -145,6 +146,11 @@ class Maker:
             return (word, self.chance.choice(lists), self.value(boxes, lists, depth - 1))
         return (word,) + tuple([self.value(boxes, lists, depth - 1) for _ in range(1 if word == "not" else 2)])
 
+    def words(self, boxes, lists, functions, returns):
+        words = ["tell", "fail", "if", "while"] + ["return"] * returns
+        words += ["set", "ask", "try"] * (len(boxes) > 0) + ["push", "put"] * (len(lists) > 0)
+        return words + ["pop"] * (len(boxes) * len(lists) > 0) + ["call"] * (len(boxes) * len(functions) > 0)
+
     def row(self, boxes, lists, functions, returns, depth):
         pick = self.chance.choice
 
@@ -154,10 +160,7 @@ class Maker:
         def rows():
             return self.rows(boxes, lists, functions, returns, depth + 1) if depth < 5 else ()
 
-        words = ["tell", "fail", "if", "while"] + ["return"] * returns
-        words += ["set", "ask", "try"] * (len(boxes) > 0) + ["push", "put"] * (len(lists) > 0)
-        words += ["pop"] * (len(boxes) * len(lists) > 0) + ["call"] * (len(boxes) * len(functions) > 0)
-        word = pick(words)
+        word = pick(self.words(boxes, lists, functions, returns))
         if word in ("tell", "fail", "return"):
             return (word, value())
         if word == "if":
@@ -195,3 +198,33 @@ class Maker:
                      for name, params, owns in heads]
         return (tuple([(name, self.number()) for name in boxes]), tuple([(name, self.numbers(12)) for name in lists]),
                 tuple(functions), self.rows(boxes, lists, counts, False))
+
+
+class Lively(Maker):
+    """Makes programs whose runs call, catch and go round more often, and worlds for them."""
+
+    def number(self):
+        return self.chance.choice((0, 1, 1, 2, 2, 3, 11, 999999))
+
+    def value(self, boxes, lists, depth=None):
+        return super().value(boxes, lists, self.chance.choice((1, 1, 2, 3)) if depth is None else depth)
+
+    def words(self, boxes, lists, functions, returns):
+        words = super().words(boxes, lists, functions, returns)
+        return words + [word for word in words if word in ("try", "call", "if", "set", "push")] * 2
+
+    def rows(self, boxes, lists, functions, returns, depth=1):
+        count = self.chance.choice((2, 3, 4)) if depth == 1 else self.chance.choice((0, 1, 1, 2))
+        return tuple([self.row(boxes, lists, functions, returns, depth) for _ in range(count)])
+
+    def program(self):
+        """The first one that isn't too long."""
+        while True:
+            program = super().program()
+            if len(rows_of(program)) <= 60:
+                return program
+
+    def world(self, program):
+        """Answers at some of the program's doors, and at one that it doesn't name."""
+        doors = self.chance.sample(doors_of(program), k=min(4, len(doors_of(program)))) + ["unasked"[:6]]
+        return tuple([(door, self.numbers(3)) for door in sorted(set(doors))])

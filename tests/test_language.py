@@ -153,6 +153,34 @@ class Language(unittest.TestCase):
                     for alias in node.names:
                         self.assertIn(alias.name, used, name)
 
+    def test_no_local_is_called_like_a_class_or_an_import(self):
+        for name, text in files().items():
+            tree = ast.parse(text)
+            taken = [alias.name for node in tree.body if isinstance(node, ast.ImportFrom) for alias in node.names]
+            taken += [node.name for node in tree.body if isinstance(node, ast.ClassDef)]
+            for node in ast.walk(tree):
+                if isinstance(node, ast.arg):
+                    self.assertNotIn(node.arg, taken, name)
+                if isinstance(node, ast.Name) and isinstance(node.ctx, ast.Store):
+                    self.assertNotIn(node.id, taken, name)
+                if isinstance(node, ast.ExceptHandler) and node.name is not None:
+                    self.assertNotIn(node.name, taken, name)
+
+    def test_errors_are_taken_by_name(self):
+        own = [node.name for name, node in nodes() if isinstance(node, ast.ClassDef)]
+        for name, node in nodes():
+            if isinstance(node, ast.ExceptHandler):
+                self.assertIsInstance(node.type, ast.Name, name)
+                self.assertIn(node.type.id, own + ["KeyError", "ZeroDivisionError", "ValueError", "IndexError"], name)
+
+    def test_what_is_walked_at_once_is_not_kept(self):
+        for name, node in nodes():
+            if isinstance(node, (ast.Assign, ast.Return)) and isinstance(node.value, ast.Call):
+                if isinstance(node.value.func, ast.Name):
+                    self.assertNotIn(node.value.func.id, ("zip", "enumerate", "reversed", "range"), name)
+                if isinstance(node.value.func, ast.Attribute):
+                    self.assertNotIn(node.value.func.attr, ("items", "keys", "values"), name)
+
     def test_names(self):
         for name, node in nodes():
             if isinstance(node, ast.Name):
