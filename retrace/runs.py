@@ -24,7 +24,7 @@ def notes(machine, steps):
     return told
 
 
-def run_length(machine, most=MOST_STEPS):
+def run_length(machine, most=2000):
     check_steps(most)
     state = machine.first()
     steps = 0

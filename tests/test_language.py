@@ -4,6 +4,7 @@ import builtins
 import os
 import re
 import unittest
+from types import NoneType
 
 FOLDER = os.path.join(os.path.dirname(os.path.dirname(os.path.abspath(__file__))), "retrace")
 OWN_NAMES = """len range enumerate zip min max sum abs sorted reversed int str bool list tuple dict set frozenset
@@ -45,6 +46,35 @@ def drawn_from(text):
     return [node.module.split(".")[1] + ".py" for node in ast.parse(text).body if isinstance(node, ast.ImportFrom)]
 
 
+def unplain_defaults(text):
+    """The lines of the defaults, of whatever functions, that are no written whole number, text, truth or None."""
+    lines = []
+    for node in ast.walk(ast.parse(text)):
+        if isinstance(node, ast.arguments):
+            # A keyword-only parameter without a default stands as None among kw_defaults.
+            for default in node.defaults + [found for found in node.kw_defaults if found is not None]:
+                if not is_plain(default):
+                    lines.append(default.lineno)
+    return lines
+
+
+def is_plain(node):
+    return isinstance(node, ast.Constant) and isinstance(node.value, (int, str, bool, NoneType))
+
+
+def unplain_parts(node, defined):
+    """The parts of what a name of a file's top is given that are neither plain nor functions defined above."""
+    if isinstance(node, (ast.List, ast.Tuple)):
+        return [found for part in node.elts for found in unplain_parts(part, defined)]
+    if isinstance(node, ast.Dict):
+        return [found for part in node.keys + node.values for found in unplain_parts(part, defined)]
+    if isinstance(node, ast.UnaryOp) and isinstance(node.op, ast.USub):
+        return unplain_parts(node.operand, [])
+    if is_plain(node) or isinstance(node, ast.Name) and node.id in defined:
+        return []
+    return [ast.dump(node)]
+
+
 class Language(unittest.TestCase):
     def test_files(self):
         self.assertIn("__init__.py", files())
@@ -70,6 +100,18 @@ class Language(unittest.TestCase):
                     self.assertTrue(node.name in METHODS or not node.name.startswith("_"))
                     for parameter in found.args:
                         self.assertFalse(parameter.arg.startswith("_") or hasattr(builtins, parameter.arg))
+
+    def test_every_default_is_a_plain_value(self):
+        for name, text in files().items():
+            self.assertEqual(unplain_defaults(text), [], name)
+
+    def test_which_defaults_are_plain_values(self):
+        for plain in ("0", "2000", "''", "'on'", "True", "False", "None"):
+            self.assertEqual(unplain_defaults(f"def f(a, b={plain}):\n    pass\n"), [], plain)
+        for other in ("MOST", "a.b", "1 + 1", "f()", "()", "(1,)", "[]", "{}", "1.0", "b''", "...", "f'a'", "lambda: 0"):
+            for text in ("def f(a, b=%s):\n    pass\n", "x = lambda b=%s: b\n", "def f(*, a, b=%s):\n    pass\n",
+                         "class C:\n def m(self, a=1, b=%s):\n  pass\n", "def f():\n def g(b=%s):\n  pass\n"):
+                self.assertEqual(len(unplain_defaults(text % other)), 1, text % other)
 
     def test_imports(self):
         for name, text in files().items():
@@ -143,6 +185,15 @@ class Language(unittest.TestCase):
                     if isinstance(node, ast.ImportFrom):
                         bound.extend([alias.name for alias in node.names])
             self.assertEqual(len(bound), len(set(bound)), name)
+
+    def test_names_of_the_top_are_given_plain_values(self):
+        for name, text in files().items():
+            defined = []
+            for node in ast.parse(text).body:
+                if isinstance(node, ast.FunctionDef):
+                    defined.append(node.name)
+                if isinstance(node, ast.Assign):
+                    self.assertEqual(unplain_parts(node.value, defined), [], name)
 
     def test_every_name_that_is_drawn_is_used(self):
         for name, text in files().items():

@@ -101,6 +101,13 @@ class RunLength(Running):
         self.same(run_length(machine(FOR_EVER), 7), 7)
         self.same(run_length(machine(FOR_EVER), most=1999), 1999)
 
+    def test_runs_without_end_where_most_is_left_out(self):
+        for text in (FOR_EVER, "while number 1\nend\n", "box a 0\nwhile number 1\nask a d\nend\n",
+                     "box a 0\ndef f\nend\nwhile number 7\ncall a f\nend\n",
+                     "box a 0\nwhile number 1\ntry\nfail number 3\ncatch a\nend\nend\n"):
+            self.same(run_length(machine(text)), 2000)
+            self.assertEqual(state_at(machine(text), 2000)[5], "on")
+
     def test_at_most_so_many(self):
         for most in range(2 * LENGTH):
             self.same(run_length(machine(), most), min(most, LENGTH))
